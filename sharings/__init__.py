@@ -1,0 +1,1 @@
+"""Sharings: all ways to part a set of things in shares."""
