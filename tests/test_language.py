@@ -237,10 +237,11 @@ class Language(unittest.TestCase):
 
     def test_the_look_at_the_rules_finds_faults(self):
         within = ["x = 1 / 2", "x = 0.5", "x = {1, 2}", "x = set(a)", "x = set(a) - set(a)", "x = y = a",
-                  "for x in set(a):\n        pass", "assert a", "yield a", "x = {k: 1 for k in a}", "x = (k for k in a)",
-                  "x = [k for k in a for m in a]", "a.sort()", "x = 2 ** a", "return a is x", "len = 1", "x = map(a, a)", "with a:\n        pass",
-                  "x = '%'", "x = 'type'", "x = 1 # " + "long " * 24, "del a[0]", "_x = 1", "x = f(*a)",
-                  "import sharings", "x = sorted(a, other=1)", "x = b''", "if (x := a):\n        pass",
+                  "for x in set(a):\n        pass", "assert a", "yield a", "x = {k: 1 for k in a}",
+                  "x = (k for k in a)", "x = [k for k in a for m in a]", "a.sort()", "x = 2 ** a", "return a is x",
+                  "len = 1", "x = map(a, a)", "with a:\n        pass", "x = '%'", "x = 'type'",
+                  "x = 1 # " + "long " * 24, "del a[0]", "_x = 1", "x = f(*a)", "import sharings",
+                  "x = sorted(a, other=1)", "x = b''", "if (x := a):\n        pass",
                   "while a:\n        pass\n    else:\n        pass", "x = list(a, key=1)", "global x", "print(a)"]
         for row in within:
             with self.subTest(row):
