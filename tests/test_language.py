@@ -1,4 +1,7 @@
-"""The rules of LANGUAGE.md that can be seen in a file's text and tree, asked of every file of the package."""
+"""Many rules of LANGUAGE.md, asked of every file of the package.
+
+Not asked: L9, L11, L13, L18, L19, L23, L26, L28, and parts of the others.
+"""
 
 import ast
 import builtins
