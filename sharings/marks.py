@@ -1,12 +1,21 @@
 """A sharing told by its marks, by its shares, and the sizes of its shares."""
 
-from sharings.errors import NoShares, NoSharing
+from sharings.errors import NoShares, NoSharing, NoThings
 
 MOST_THINGS = 12
 
 
+def is_many_things(number):
+    return number >= 1 and number <= MOST_THINGS
+
+
+def ask_things(things):
+    if not is_many_things(things):
+        raise NoThings("there are 1 to 12 things")
+
+
 def is_sharing(one):
-    if len(one) < 1 or len(one) > MOST_THINGS:
+    if not is_many_things(len(one)):
         return False
     shares_ahead = 0
     for mark in one:
@@ -46,7 +55,7 @@ def are_shares(shares):
         if len(share) == 0:
             return False
         things.extend(share)
-    if len(things) < 1 or len(things) > MOST_THINGS:
+    if not is_many_things(len(things)):
         return False
     return sorted(things) == list(range(len(things)))
 

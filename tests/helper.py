@@ -44,6 +44,12 @@ NO_SHARINGS = [
     [0, -(10 ** 59)],
 ]
 
+# How many sharings there are of 1 to 12 things, from tables of the Bell numbers.
+COUNTS = [1, 2, 5, 15, 52, 203, 877, 4140, 21147, 115975, 678570, 4213597]
+
+# Numbers far beyond all that a number of things, a thing or a number of a sharing may be.
+FAR = [10 ** 59, 10 ** 60 - 1, -(10 ** 59), 1 - 10 ** 60]
+
 NO_SHARES = [
     [],
     [[]],
@@ -114,11 +120,26 @@ def all_steps(one):
     return steps
 
 
+def marks_by_search(things, pairs):
+    """The marks of the sharing of some pairs, by a search from each thing for all that it is bound to."""
+    return marks_by_pairs(things, closed(things, set(pairs) | {(second, first) for first, second in pairs}))
+
+
+def walked(pairs, way, thing):
+    """The thing that is come to by a way, from a thing on; None if a pair has not the thing that was come to."""
+    for number in way:
+        if number not in range(len(pairs)) or thing not in pairs[number]:
+            return None
+        first, second = pairs[number]
+        thing = second if thing == first else first
+    return thing
+
+
 def lists_within(value):
     """Every list in a value, the value itself too, each as often as it stands there."""
-    if not isinstance(value, list):
+    if not isinstance(value, (list, tuple)):
         return []
-    found = [value]
+    found = [value] if isinstance(value, list) else []
     for entry in value:
         found.extend(lists_within(entry))
     return found
