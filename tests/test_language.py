@@ -1,6 +1,6 @@
 """The rules of LANGUAGE.md, asked of every file of the package.
 
-Where the program needs less than a rule allows, less is asked for, and the finer words of the rule don't come in:
+Where the program needs less than a rule allows, only that passes, and the finer words of the rule don't come in:
 no `try`, `lambda`, def within a def, method, value of an object, annotation, `isinstance` or `__main__`; a file's top
 holds whole numbers and texts alone; no function comes back to itself by its calls.
 What can't be seen in the text is not asked: whether a list that is walked is changed by a call that it is handed to.
